@@ -1,0 +1,1 @@
+"""Spanmap: a line of places with values, kept by stretches."""
