@@ -3,6 +3,7 @@
 import itertools
 import unittest
 
+from spanmap.deeds import Mirror, Move, Narrow, Put, Stretch, Widen
 from spanmap.errors import SpanError
 
 LARGE = 10 ** 500 - 1
@@ -52,6 +53,55 @@ def many_pieces(count, start=0, width=3, gap=2):
     """A map of so many pieces, parted by gaps, with values that come again."""
     step = width + gap
     return [(start + step * k, start + step * k + width, k % 7 - 3) for k in range(count)]
+
+
+def plain_came(deed, place):
+    """Of a deed told as a tuple such as ("move", 3): from where the value at the place came."""
+    kind, *made_of = deed
+    if kind == "put":
+        return None if lies_in(made_of[0], place) else place
+    if kind == "widen":
+        at, many = made_of
+        if place in range(at, at + many):
+            return None
+        return place if place < at else place - many
+    if kind == "narrow":
+        at, many = made_of
+        return place if place < at else place + many
+    if kind == "move":
+        return place - made_of[0]
+    if kind == "stretch":
+        top, bottom = made_of
+        return place * bottom // top
+    return -place
+
+
+def plain_went(deed, place):
+    kind, *made_of = deed
+    if kind == "put":
+        return place
+    if kind == "widen":
+        at, many = made_of
+        return place if place < at else place + many
+    if kind == "narrow":
+        at, many = made_of
+        if place in range(at, at + many):
+            return None
+        return place if place < at else place - many
+    if kind == "move":
+        return place + made_of[0]
+    if kind == "stretch":
+        top, bottom = made_of
+        close = place * top // bottom
+        tries = [other for other in range(close - 3, close + 4) if plain_came(deed, other) == place]
+        return tries[0] if tries else None
+    return -place
+
+
+def made_deed(deed):
+    kind, *made_of = deed
+    makers = {"put": Put, "widen": Widen, "narrow": Narrow, "move": Move, "stretch": Stretch, "mirror": Mirror}
+    return makers[kind](*made_of)
 
 
 class SpanTest(unittest.TestCase):
