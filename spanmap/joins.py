@@ -3,6 +3,7 @@
 from spanmap.errors import Clash
 from spanmap.maps import knit, paired, runs_of
 from spanmap.spans import some_place
+from spanmap.ways import either
 
 
 def joined(one, other, way):
@@ -19,7 +20,3 @@ def merged(one, other):
         if value is not None and other_value is not None and value != other_value:
             raise Clash(some_place((low, behind)), value, other_value)
     return joined(one, other, either)
-
-
-def either(value, other_value):
-    return other_value if value is None else value

@@ -7,6 +7,10 @@ from spanmap.deeds import Mirror, Move, Narrow, Put, Stretch, Widen
 from spanmap.errors import SpanError
 
 LARGE = 10 ** 500 - 1
+NO_NAMES = [
+    "", "A", "Mark", "a1", "a b", " a", "a ", "a\n", "abcdefghi", "-", "_", "1",
+    None, 0, 5, True, [], ["a"], ("a",), {}, b"a", 1.5,
+]
 
 
 def spans_within(first, last):

@@ -1,17 +1,15 @@
 import random
 import unittest
 
-from helper import LARGE, SpanTest, lies_in, made_deed, many_pieces, plain_came, plain_map, plain_went, told_at
+from helper import (
+    LARGE, NO_NAMES, SpanTest, lies_in, made_deed, many_pieces, plain_came, plain_map, plain_went, told_at,
+)
 from spanmap import lines
 from spanmap.deeds import Mirror, Move, Narrow, Put, Stretch, Widen
 from spanmap.errors import NoDeed, NoMark, NoName
 from spanmap.lines import Line
 
 BEGUN = [(None, -4, 2), (0, 3, 1), (3, 5, 2)]
-NO_NAMES = [
-    "", "A", "Mark", "a1", "a b", " a", "a ", "a\n", "abcdefghi", "-", "_", "1",
-    None, 0, 5, True, [], ["a"], ("a",), {}, b"a", 1.5,
-]
 
 
 def state_of(line):
