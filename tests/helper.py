@@ -53,6 +53,24 @@ def small_maps(inner, values=(None, 1, 2)):
     return maps
 
 
+def plain_wheel(told):
+    """The wheel that tells these values, one for each place of a turn, found by trying each lesser turn."""
+    turns = [turn for turn in range(1, len(told) + 1) if len(told) % turn == 0]
+    turn = [turn for turn in turns if told == told[:turn] * (len(told) // turn)][0]
+    return (turn, plain_map(lambda place: told[place] if 0 <= place < turn else None, -1, turn))
+
+
+def small_wheels(most, values=(None, 1, 2)):
+    """All wheels of these values with turns of up to most places."""
+    wheels = []
+    for turn in range(1, most + 1):
+        for told in itertools.product(values, repeat=turn):
+            wheel = plain_wheel(told)
+            if wheel[0] == turn:
+                wheels.append(wheel)
+    return wheels
+
+
 def many_pieces(count, start=0, width=3, gap=2):
     """A map of so many pieces, parted by gaps, with values that come again."""
     step = width + gap
